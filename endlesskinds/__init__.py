@@ -1,0 +1,1 @@
+"""Endlesskinds: which types a program with generic classes needs."""

@@ -1,0 +1,79 @@
+"""Values that the tests share."""
+
+from endlesskinds import errors
+from endlesskinds.tables import Table
+
+ONE = ("one", (), (), ())
+TWO = ("two", (), (), ())
+BOX = ("box", (("X", "out"),), (), (("first", "reads", "X"),))
+SINK = ("sink", (("X", "in"),), (), (("put", "takes", "X"),))
+CELL = ("cell", (("X", "same"),), (), (("at", "holds", "X"),))
+PAIR = (
+    "pair",
+    (("X", "out"), ("Y", "same")),
+    (("box", "X"), ("one",)),
+    (("first", "reads", "X"), ("second", "holds", ("box", "Y"))),
+)
+
+# What a text may be made of: the percent sign is left out.
+SIGNS = ["\n"] + [chr(code) for code in range(32, 127) if code != 37]
+
+PAIR_TEXT = (
+    "class one\n"
+    "class box[out X]\n"
+    "  reads first X\n"
+    "class pair[out X, same Y] from box(X), one\n"
+    "  reads first X\n"
+    "  holds second box(Y)\n"
+)
+
+
+def bare(name, *parents):
+    """A class without parameters and members."""
+    return (name, (), parents, ())
+
+
+def pair_table():
+    return Table(ONE, BOX, PAIR)
+
+
+def nested(thing, times, wrap):
+    for _ in range(times):
+        thing = wrap(thing)
+    return thing
+
+
+def chain(length, end=("one",)):
+    """box(box(...)), as deep as told above its end."""
+    return nested(end, length, lambda kind: ("box", kind))
+
+
+def anything():
+    """Values of all kinds, none of them a type, a class, a text of these, or the name of a class."""
+    table = pair_table()
+    return [
+        0, 1, -1, 5, 10 ** 13 - 1, True, False, None,
+        "", " ", "\n", "x y", "(", ")", "()", "1", "A1", "Xa", "AB", "aB", "toolongname", "one()", "X()",
+        "out X", "class ", "class one", "  reads first X\n", "a-b", "a_b", "~", "[", "@", "`", "{", "0",
+        (), [], {}, [[]], ((),), [()], ({},), {"X": []}, {(): {}}, {1: True, None: ()},
+        ["one"], ["box", ["one"]], ("box", ["one"]), [("one",)], ("",), (1,), (True,), (None,), ((("one",),),),
+        ("X",), ("Box",), ("bOx", "X"), ("box", "x"), ("box", "box"), ("box", "XY"), ("box", ""), ("box", None),
+        ("box", True), ("box", 1), ("box", ("box", 0)), ("box", ()), ("box", []), ("box", {}), ("box", table),
+        ("box", "X", ""), ("box", "", "X"), ("box", ("one",), ["one"]), ("ninechars",), ("one ",), ("on3",),
+        ("box", "X", "X", "X"), ("box", "@"), ("box", "["), ("`",), ("one", ("box", "X", "Y", "Z")),
+        table, [table], (table,), (table, "X"), {"X": table},
+        errors.NoType("told"), errors.Unfit("box"), (errors.Turned("box", "X"),), [errors.Endless((("box", "X"),))],
+        nested([], 19, lambda thing: [thing]),
+        nested((), 19, lambda thing: (thing,)),
+        nested({}, 19, lambda thing: {"X": thing}),
+        nested(["X"], 18, lambda thing: ("box", thing)),
+        nested(table, 19, lambda thing: ("box", thing)),
+        tuple(["X"] * 7999), ["X"] * 7999, ("box",) * 7999, ("box", ("X",) * 7990),
+        {number: "X" for number in range(3999)},
+        tuple([("box", "X")] * 2600),
+    ]
+
+
+def letters_and_values():
+    """Values that are letters, types or names, but not classes, nor their texts."""
+    return ["X", "Y", "Z", "A", "one", "abcdefgh", ("one",), ("box", "X"), ("pair", "X", ("one",)), chain(30)]
