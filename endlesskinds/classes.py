@@ -1,7 +1,7 @@
 """Which values are classes [20], and which classes make a table [21]."""
 
 from endlesskinds.errors import Looped, NoClass, Turned, Unfit
-from endlesskinds.types import is_letter, is_name, is_type, parts, size_of
+from endlesskinds.types import is_letter, is_name, is_type, size_of
 from endlesskinds.variances import PLUS, VARIANCES, is_barred, signed_letters
 
 MOST_CLASSES = 5
@@ -80,13 +80,16 @@ def arities(classes):
     return {one[0]: len(one[1]) for one in classes}
 
 
-def is_of(kind, wanted, letters):
-    """Whether a type has the names and numbers of arguments of a table, and no other letters."""
-    for part in parts(kind):
-        if isinstance(part, str):
-            if part not in letters:
+def is_of(thing, wanted, letters):
+    """Whether any value is a type with the names and numbers of arguments of a table, and no other letters."""
+    rest = [thing]
+    while rest:
+        part = rest.pop()
+        if isinstance(part, tuple) and len(part) > 0 and isinstance(part[0], str):
+            if wanted.get(part[0]) != len(part) - 1:
                 return False
-        elif wanted.get(part[0]) != len(part) - 1:
+            rest.extend(part[1:])
+        elif part not in letters:
             return False
     return True
 

@@ -3,7 +3,6 @@
 from endlesskinds.classes import arities, check_classes, is_of, names_of
 from endlesskinds.errors import Looped, NoClass, NoName, NoText, Turned, Unfit
 from endlesskinds.tabletext import classes_text, read_classes
-from endlesskinds.types import is_type
 
 
 class Table:
@@ -27,7 +26,7 @@ class Table:
         return len(self._classes)
 
     def __contains__(self, x):
-        return is_type(x) and is_of(x, arities(self._classes), ())
+        return is_of(x, arities(self._classes), ())
 
     def __eq__(self, other):
         return isinstance(other, Table) and self._classes == other._classes

@@ -87,18 +87,27 @@ def depth(kind):
     return depth_of(kind)
 
 
-def filled(kind, values):
-    """What fill returns for what is known to be a type and values."""
+def folded(kind, of_letter, of_class):
+    """What a type comes to, its arguments ahead of it.
+
+    of_letter makes something of a letter, of_class of a name and of what the
+    arguments came to.
+    """
     done = []
     # From the last part to the first, so that the arguments of a class type
     # are done ahead of it, its first argument last of all.
     for part in parts(kind)[::-1]:
         if isinstance(part, str):
-            done.append(values.get(part, part))
+            done.append(of_letter(part))
         else:
             arguments = [done.pop() for _ in part[1:]]
-            done.append((part[0], *arguments))
+            done.append(of_class(part[0], arguments))
     return done.pop()
+
+
+def filled(kind, values):
+    """What fill returns for what is known to be a type and values."""
+    return folded(kind, lambda letter: values.get(letter, letter), lambda name, arguments: (name, *arguments))
 
 
 def are_values(thing):

@@ -15,6 +15,12 @@ PAIR = (
     (("first", "reads", "X"), ("second", "holds", ("box", "Y"))),
 )
 
+# Like pair, without needs of its own.
+DUO = ("duo", (("X", "out"), ("Y", "out")), (), ())
+DEEP = ("deep", (("X", "out"),), (), (("more", "reads", ("deep", ("box", "X"))),))
+# Its types double in size from layer to layer.
+TWICE = ("twice", (("X", "out"),), (), (("more", "reads", ("twice", ("duo", "X", "X"))),))
+
 # What a text may be made of: the percent sign is left out.
 SIGNS = ["\n"] + [chr(code) for code in range(32, 127) if code != 37]
 
@@ -35,6 +41,12 @@ def bare(name, *parents):
 
 def pair_table():
     return Table(ONE, BOX, PAIR)
+
+
+def reading(name, letters, *kinds):
+    """A class with parameters that are out, which reads some types."""
+    members = [(member, "reads", kind) for member, kind in zip("ab", kinds)]
+    return (name, tuple((letter, "out") for letter in letters), (), tuple(members))
 
 
 def nested(thing, times, wrap):

@@ -1,0 +1,20 @@
+"""What the functions ask of their arguments."""
+
+from endlesskinds.errors import NoTable, NoType
+from endlesskinds.tables import Table
+
+
+def check_table(thing):
+    if not isinstance(thing, Table):
+        raise NoTable("this is not a table")
+
+
+def check_kind(table, thing):
+    """Raise NoTable or NoType unless any value is a closed type of what is a table."""
+    check_table(table)
+    if thing not in table:
+        raise NoType("this is not a closed type of the table")
+
+
+def is_integer(thing):
+    return isinstance(thing, int) and not isinstance(thing, bool)

@@ -1,0 +1,208 @@
+"""What all functions about the needs of types do alike: [2], [3], and the exceptions of the interface."""
+
+import copy
+import inspect
+import itertools
+import unittest
+
+from endlesskinds import endings, mends, needs
+from endlesskinds.errors import Endless, KindError, NoTable, NoType, TooMany
+from endlesskinds.tables import Table
+from helpers import (
+    BOX, CELL, DEEP, DUO, ONE, PAIR, TWICE, TWO, anything, chain, letters_and_values, nested, pair_table,
+)
+
+# The functions and the names of their arguments.
+FUNCTIONS = [
+    (endings.steps, "table"),
+    (endings.verdict, "table kind"),
+    (endings.shows_verdict, "table kind thing"),
+    (needs.layers, "table kind"),
+    (needs.needs, "table kind"),
+    (needs.why, "table kind other"),
+    (mends.mend, "table kind"),
+    (mends.shows_mend, "table kind thing"),
+]
+OF_A_KIND = FUNCTIONS[1:]
+
+BOXES = ("box", ("box", ("one",)))
+RIGHT = {"table": pair_table(), "kind": BOXES, "other": ("one",), "thing": ("ends", 3)}
+
+
+def arguments(names, **changed):
+    """Right arguments for a function, but for what is changed."""
+    values = {**RIGHT, **changed}
+    return [values[name] for name in names.split()]
+
+
+def told(function, *values, **named):
+    """What a function returns, or the class of its exception; of a generator what it yields at first."""
+    try:
+        result = function(*values, **named)
+        if inspect.isgenerator(result):
+            return list(itertools.islice(result, 5))
+        return result
+    except KindError as error:
+        return type(error)
+
+
+def no_tables():
+    things = [thing for thing in anything() + letters_and_values() if not isinstance(thing, Table)]
+    classes = pair_table().classes
+    return things + [classes, list(classes), ONE, classes[0], pair_table().names, pair_table().text(), (pair_table(),)]
+
+
+def no_kinds():
+    """Values that are not closed types of the table of the right arguments."""
+    return anything() + [
+        "X", "Z", "one", "box", "box(one)", ("box", "X"), ("pair", ("one",), "X"), ("pair", "X", ("one",)),
+        ("two",), ("box", ("two",)), ("sink", ("one",)), ("deep", ("one",)), ("one", ("one",)), ("box",), ("pair",),
+        ("box", ("one",), ("one",)), ("pair", ("one",)), ("pair", ("one",), ("box",)), (("one",),),
+        ["one"], ["box", ("one",)], ("box", ["one"]), ("box", ("pair", ("one",), ["one"])),
+        (True,), ("one", True), ("box", True), ("box", 1), ("box", None), ("box", pair_table()),
+        ONE, BOX, PAIR, chain(40, "X"), chain(40, ("two",)), chain(40, ["one"]), chain(6000, "X"),
+    ]
+
+
+class InterfaceTest(unittest.TestCase):
+    def test_each_is_defined_in_its_file_with_these_arguments(self):
+        for function, names in FUNCTIONS:
+            self.assertEqual(list(inspect.signature(function).parameters), names.split())
+        for file, listed in [(endings, "steps verdict shows_verdict"), (needs, "layers needs why"),
+                             (mends, "mend shows_mend")]:
+            for name in listed.split():
+                self.assertTrue(inspect.isfunction(getattr(file, name)))
+                self.assertEqual(getattr(file, name).__module__, file.__name__)
+
+    def test_by_position_and_by_name(self):
+        for function, names in FUNCTIONS:
+            values = arguments(names)
+            expected = told(function, *values)
+            named = dict(zip(names.split(), values))
+            self.assertEqual(told(function, **named), expected)
+            self.assertEqual(told(function, **dict(reversed(named.items()))), expected)
+            self.assertEqual(told(function, values[0], **dict(list(named.items())[1:])), expected)
+            self.assertNotIsInstance(expected, type)
+
+    def test_kinds_of_results(self):
+        for function, names in FUNCTIONS:
+            expected = bool if names.endswith("thing") else tuple
+            if function != needs.layers:
+                self.assertIs(type(function(*arguments(names))), expected)
+        self.assertIsNone(needs.why(pair_table(), ("one",), BOXES))
+        self.assertTrue(inspect.isgenerator(needs.layers(pair_table(), BOXES)))
+
+
+class WrongTest(unittest.TestCase):
+    def test_no_table(self):
+        for thing in no_tables():
+            for function, names in FUNCTIONS:
+                self.assertIs(told(function, *arguments(names, table=thing)), NoTable)
+
+    def test_no_type(self):
+        for thing in no_kinds():
+            for function, names in OF_A_KIND:
+                self.assertIs(told(function, *arguments(names, kind=thing)), NoType)
+            self.assertIs(told(needs.why, *arguments("table kind other", other=thing)), NoType)
+
+    def test_the_table_counts(self):
+        for table, kinds in [(Table(ONE), [("one",)]), (Table(TWO, BOX), [("two",), ("box", ("two",))]),
+                             (Table(("box", (), (), ())), [("box",)])]:
+            for kind in [("one",), ("two",), ("box", ("two",)), ("box", ("one",)), ("box",),
+                         ("pair", ("one",), ("one",))]:
+                for function, names in OF_A_KIND:
+                    result = told(function, *arguments(names, table=table, kind=kind, other=kind))
+                    self.assertIs(result is NoType, kind not in kinds)
+
+    def test_no_table_ahead_of_no_type(self):
+        for thing in [None, True, "table", [], pair_table().classes, chain(3)]:
+            for kind in [None, 3, "X", ("two",), ["one"], pair_table()]:
+                for function, names in OF_A_KIND:
+                    values = arguments(names, table=thing, kind=kind, other=kind, thing=kind)
+                    self.assertIs(told(function, *values), NoTable)
+
+    def test_arguments_ahead_of_endless_and_too_many(self):
+        table = pair_table() + DEEP
+        for kind in [("deep", ("one",)), chain(70), ("deep", chain(70))]:
+            for thing in [None, True, "X", "one", ["one"], ("two",), ("deep", "X"), ("deep",), table]:
+                self.assertIs(told(needs.why, table, kind, thing), NoType)
+            self.assertIs(told(needs.why, table.classes, kind, None), NoTable)
+            self.assertIs(told(needs.why, table, None, kind), NoType)
+
+    def test_endless_ahead_of_too_many(self):
+        table = pair_table() + DEEP
+        for function, names in [(needs.needs, "table kind"), (needs.why, "table kind other")]:
+            self.assertIs(told(function, *arguments(names, table=table, kind=("deep", ("one",)))), Endless)
+            self.assertIs(told(function, *arguments(names, table=table, kind=chain(70))), TooMany)
+            self.assertIs(told(function, *arguments(names, table=table, kind=("deep", chain(70)))), Endless)
+
+    def test_a_generator_raises_when_its_first_result_is_asked_for_at_the_latest(self):
+        for table, kind, error in [(None, BOXES, NoTable), (pair_table(), "X", NoType), (None, None, NoTable)]:
+            with self.assertRaises(error):
+                next(needs.layers(table, kind))
+
+    def test_what_is_no_class_of_the_others(self):
+        self.assertEqual(len({NoTable, NoType, Endless, TooMany}), 4)
+        with self.assertRaises(Endless) as caught:
+            needs.needs(Table(ONE, BOX, DEEP), ("deep", ("one",)))
+        self.assertEqual(caught.exception.cycle, (("deep", "X"),))
+        self.assertIsInstance(caught.exception, ValueError)
+
+
+class UnchangedTest(unittest.TestCase):
+    def test_arguments_are_as_they_were(self):
+        values = [["one"], {"X": ["one"]}, ("endless", [["deep", "X"]]), ("ends", [3]), ([["box", 0]],), [("box", 0)],
+                  nested(["X"], 9, lambda thing: [thing, {"a": (thing,)}])]
+        for thing in values:
+            before = copy.deepcopy(thing)
+            for function, names in FUNCTIONS:
+                for name in names.split():
+                    told(function, *arguments(names, **{name: thing}))
+                    self.assertEqual(thing, before)
+
+    def test_a_table_and_its_types_are_as_they_were(self):
+        classes = (ONE, BOX, DEEP, DUO, TWICE)
+        table = Table(*classes)
+        for kind in [("one",), BOXES, ("deep", ("one",)), ("twice", BOXES), chain(70)]:
+            before = copy.deepcopy(kind)
+            for function, names in FUNCTIONS:
+                told(function, *arguments(names, table=table, kind=kind))
+                self.assertEqual(table.classes, classes)
+                self.assertEqual(kind, before)
+
+    def test_the_same_call_again_returns_the_same(self):
+        table = Table(ONE, BOX, DEEP, DUO, TWICE)
+        things = [("ends", 3), ("ends", 71), ("endless", (("deep", "X"),)),
+                  (), (("deep", 0),), (("twice", 0), ("deep", 0))]
+        for kind in [("one",), BOXES, ("deep", ("one",)), ("twice", BOXES), chain(70), None]:
+            for thing in things:
+                for function, names in FUNCTIONS:
+                    values = arguments(names, table=table, kind=kind, thing=thing)
+                    first = told(function, *values)
+                    self.assertEqual(told(function, *values), first)
+                    self.assertEqual(told(function, *copy.deepcopy(values)), first)
+
+    def test_returned_values_may_be_passed_back(self):
+        table = Table(ONE, BOX, DUO, TWICE, CELL)
+        for layer in itertools.islice(needs.layers(table, ("twice", BOXES)), 11):
+            for kind in layer:
+                word, value = endings.verdict(table, kind)
+                self.assertIs(endings.shows_verdict(table, kind, (word, value)), True)
+                self.assertIs(endings.shows_verdict(table, kind, [word, value]), False)
+                self.assertIs(endings.shows_verdict(table, kind, (word, value, kind)), False)
+                self.assertIs(endings.shows_verdict(table, kind, (word, layer)), False)
+                left_out = mends.mend(table, kind)
+                self.assertIs(mends.shows_mend(table, kind, left_out), True)
+                self.assertIs(mends.shows_mend(table, kind, left_out + (kind,)), False)
+                self.assertIs(mends.shows_mend(table, kind, layer), False)
+                self.assertIs(told(needs.why, table, kind, [kind]), NoType)
+                self.assertIs(told(endings.verdict, table, layer), NoType)
+                self.assertIs(told(endings.verdict, table, kind + ("X",)), NoType)
+                self.assertIs(told(endings.verdict, layer, kind), NoTable)
+        for kind in needs.needs(table, BOXES):
+            self.assertEqual(needs.why(table, kind, kind), (kind,))
+            self.assertIn(kind, needs.why(table, BOXES, kind))
+
+
+if __name__ == "__main__":
+    unittest.main()
