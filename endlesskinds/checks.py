@@ -1,7 +1,10 @@
 """What the functions ask of their arguments."""
 
+from endlesskinds.classes import arities, is_of
 from endlesskinds.errors import NoTable, NoType
 from endlesskinds.tables import Table
+
+CAPITALS = "ABCDEFGHIJKLMNOPQRSTUVWXYZ"
 
 
 def check_table(thing):
@@ -14,6 +17,18 @@ def check_kind(table, thing):
     check_table(table)
     if thing not in table:
         raise NoType("this is not a closed type of the table")
+
+
+def is_open_kind(table, thing):
+    """Whether any value is a type of a table, with whatever letters."""
+    return is_of(thing, arities(table.classes), list(CAPITALS))
+
+
+def check_open_kind(table, thing):
+    """Raise NoTable or NoType unless any value is a type of what is a table, with whatever letters."""
+    check_table(table)
+    if not is_open_kind(table, thing):
+        raise NoType("this is not a type of the table")
 
 
 def is_integer(thing):

@@ -2,7 +2,7 @@
 
 from endlesskinds.errors import Looped, NoClass, Turned, Unfit
 from endlesskinds.types import is_letter, is_name, is_type, size_of
-from endlesskinds.variances import PLUS, VARIANCES, is_barred, signed_letters
+from endlesskinds.variances import PLUS, VARIANCES, signed_letters, wrong_letters
 
 MOST_CLASSES = 5
 MOST_IN_CLASS = 2
@@ -80,6 +80,11 @@ def arities(classes):
     return {one[0]: len(one[1]) for one in classes}
 
 
+def variances_of(classes):
+    """For the name of each class the variances of its parameters."""
+    return {one[0]: [parameter[1] for parameter in one[1]] for one in classes}
+
+
 def is_of(thing, wanted, letters):
     """Whether any value is a type with the names and numbers of arguments of a table, and no other letters."""
     rest = [thing]
@@ -113,8 +118,13 @@ def check_fit(classes):
             raise Unfit(one[0])
 
 
+def heads_of(classes):
+    """For the name of each class those that its parents begin with."""
+    return {one[0]: [parent[0] for parent in one[2]] for one in classes}
+
+
 def elders(heads, name):
-    """The names of a class's elders; heads has, for each name, those that the parents begin with."""
+    """The names of a class's elders; heads is what heads_of returns."""
     found = []
     rest = list(heads[name])
     while rest:
@@ -126,19 +136,19 @@ def elders(heads, name):
 
 
 def check_elders(classes):
-    heads = {one[0]: [parent[0] for parent in one[2]] for one in classes}
+    heads = heads_of(classes)
     for name in heads:
         if name in elders(heads, name):
             raise Looped(name)
 
 
 def check_parents(classes):
-    variances = {one[0]: [parameter[1] for parameter in one[1]] for one in classes}
+    variances = variances_of(classes)
     for name, parameters, parents, _ in classes:
         places = [place for parent in parents for place in signed_letters(parent, PLUS, variances)]
-        for letter, variance in parameters:
-            if any([found == letter and is_barred(sign, variance) for found, sign in places]):
-                raise Turned(name, letter)
+        wrong = wrong_letters(parameters, places)
+        if wrong:
+            raise Turned(name, wrong[0][0])
 
 
 def check_classes(classes):

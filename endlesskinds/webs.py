@@ -1,7 +1,7 @@
-"""The places of a table, and what is reached over them [32], [34]."""
+"""The places of a table, and what is reached over them [32], [34], [41]."""
 
 from endlesskinds.classes import declared, letters_of
-from endlesskinds.cycles import links_over
+from endlesskinds.cycles import first_cycle, links_over
 from endlesskinds.types import class_types, parts
 
 
@@ -11,10 +11,14 @@ def names_in(kind):
 
 
 class Web:
-    """The places of some classes: for each its declared type, the classes in this, and its links."""
+    """The places of some classes: for each its declared type, the classes in this, and its links.
+
+    beside has the places that are of members, not of parents.
+    """
 
     def __init__(self, classes):
         self.letters = {one[0]: letters_of(one) for one in classes}
+        self.beside = [(one[0], len(one[2]) + at) for one in classes for at in range(len(one[3]))]
         self.kinds = {}
         self.heads = {}
         self.links = {}
@@ -66,3 +70,13 @@ class Reach:
 def reach_of(classes, kind):
     """What is reached from a type, if nothing is left out."""
     return Reach(Web(classes), names_in(kind))
+
+
+def parent_cycle(classes, names):
+    """The first of the shortest widening cycles of steps that come from parents.
+
+    Those of the classes with some names are followed, those of the classes
+    in these parents, and so on. None if there is no such cycle.
+    """
+    web = Web(classes)
+    return first_cycle(Reach(web, names, web.beside).steps)

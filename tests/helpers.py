@@ -1,6 +1,10 @@
-"""Values that the tests share."""
+"""Values that the tests share, and what they ask of functions."""
+
+import inspect
+import itertools
 
 from endlesskinds import errors
+from endlesskinds.books import Book
 from endlesskinds.tables import Table
 
 ONE = ("one", (), (), ())
@@ -60,6 +64,11 @@ def chain(length, end=("one",)):
     return nested(end, length, lambda kind: ("box", kind))
 
 
+def endless_book():
+    """A book that has no length."""
+    return Book(Table(ONE, BOX, DEEP), ("deep", ("one",)))
+
+
 def anything():
     """Values of all kinds, none of them a type, a class, a text of these, or the name of a class."""
     table = pair_table()
@@ -74,6 +83,7 @@ def anything():
         ("box", "X", ""), ("box", "", "X"), ("box", ("one",), ["one"]), ("ninechars",), ("one ",), ("on3",),
         ("box", "X", "X", "X"), ("box", "@"), ("box", "["), ("`",), ("one", ("box", "X", "Y", "Z")),
         table, [table], (table,), (table, "X"), {"X": table},
+        Book(table, ("one",)), endless_book(), (endless_book(),), ("box", endless_book()), {"X": [endless_book()]},
         errors.NoType("told"), errors.Unfit("box"), (errors.Turned("box", "X"),), [errors.Endless((("box", "X"),))],
         nested([], 19, lambda thing: [thing]),
         nested((), 19, lambda thing: (thing,)),
@@ -89,3 +99,20 @@ def anything():
 def letters_and_values():
     """Values that are letters, types or names, but not classes, nor their texts."""
     return ["X", "Y", "Z", "A", "one", "abcdefgh", ("one",), ("box", "X"), ("pair", "X", ("one",)), chain(30)]
+
+
+def told(function, *values, **named):
+    """What a function returns, or the class of its exception; of a generator what it yields at first."""
+    try:
+        result = function(*values, **named)
+        if inspect.isgenerator(result):
+            return list(itertools.islice(result, 5))
+        return result
+    except errors.KindError as error:
+        return type(error)
+
+
+def no_tables():
+    things = [thing for thing in anything() + letters_and_values() if not isinstance(thing, Table)]
+    classes = pair_table().classes
+    return things + [classes, list(classes), ONE, classes[0], pair_table().names, pair_table().text(), (pair_table(),)]

@@ -86,15 +86,19 @@ def reached(table, kind, left_out=()):
     return names
 
 
-def cycles(table, kind, left_out=()):
-    """All widening cycles that a type reaches, the shortest first, ascending among the others."""
-    steps = all_steps(table, reached(table, kind, left_out), left_out)
+def cycles_over(steps):
+    """All widening cycles of some steps, the shortest first, ascending among the others."""
     points = sorted({point for step in steps for point in step})
     for many in range(1, len(points) + 1):
         for cycle in itertools.permutations(points, many):
             pairs = list(zip(cycle, cycle[1:] + cycle[:1]))
             if all(pair in steps for pair in pairs) and any(steps[pair] > 0 for pair in pairs):
                 yield cycle
+
+
+def cycles(table, kind, left_out=()):
+    """All widening cycles that a type reaches, in the same order."""
+    return cycles_over(all_steps(table, reached(table, kind, left_out), left_out))
 
 
 def ends(table, kind, left_out=()):

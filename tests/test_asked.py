@@ -5,12 +5,11 @@ import inspect
 import itertools
 import unittest
 
+from alike import Alike
 from endlesskinds import endings, mends, needs
-from endlesskinds.errors import Endless, KindError, NoTable, NoType, TooMany
+from endlesskinds.errors import Endless, NoTable, NoType, TooMany
 from endlesskinds.tables import Table
-from helpers import (
-    BOX, CELL, DEEP, DUO, ONE, PAIR, TWICE, TWO, anything, chain, letters_and_values, nested, pair_table,
-)
+from helpers import BOX, CELL, DEEP, DUO, ONE, PAIR, TWICE, TWO, anything, chain, pair_table, told
 
 # The functions and the names of their arguments.
 FUNCTIONS = [
@@ -35,23 +34,6 @@ def arguments(names, **changed):
     return [values[name] for name in names.split()]
 
 
-def told(function, *values, **named):
-    """What a function returns, or the class of its exception; of a generator what it yields at first."""
-    try:
-        result = function(*values, **named)
-        if inspect.isgenerator(result):
-            return list(itertools.islice(result, 5))
-        return result
-    except KindError as error:
-        return type(error)
-
-
-def no_tables():
-    things = [thing for thing in anything() + letters_and_values() if not isinstance(thing, Table)]
-    classes = pair_table().classes
-    return things + [classes, list(classes), ONE, classes[0], pair_table().names, pair_table().text(), (pair_table(),)]
-
-
 def no_kinds():
     """Values that are not closed types of the table of the right arguments."""
     return anything() + [
@@ -64,25 +46,11 @@ def no_kinds():
     ]
 
 
-class InterfaceTest(unittest.TestCase):
-    def test_each_is_defined_in_its_file_with_these_arguments(self):
-        for function, names in FUNCTIONS:
-            self.assertEqual(list(inspect.signature(function).parameters), names.split())
-        for file, listed in [(endings, "steps verdict shows_verdict"), (needs, "layers needs why"),
-                             (mends, "mend shows_mend")]:
-            for name in listed.split():
-                self.assertTrue(inspect.isfunction(getattr(file, name)))
-                self.assertEqual(getattr(file, name).__module__, file.__name__)
-
-    def test_by_position_and_by_name(self):
-        for function, names in FUNCTIONS:
-            values = arguments(names)
-            expected = told(function, *values)
-            named = dict(zip(names.split(), values))
-            self.assertEqual(told(function, **named), expected)
-            self.assertEqual(told(function, **dict(reversed(named.items()))), expected)
-            self.assertEqual(told(function, values[0], **dict(list(named.items())[1:])), expected)
-            self.assertNotIsInstance(expected, type)
+class AlikeTest(Alike, unittest.TestCase):
+    FUNCTIONS = FUNCTIONS
+    RIGHT = RIGHT
+    FILES = [(endings, "steps verdict shows_verdict"), (needs, "layers needs why"), (mends, "mend shows_mend")]
+    MODIFIABLE = [("endless", [["deep", "X"]]), ("ends", [3]), ([["box", 0]],), [("box", 0)]]
 
     def test_kinds_of_results(self):
         for function, names in FUNCTIONS:
@@ -94,11 +62,6 @@ class InterfaceTest(unittest.TestCase):
 
 
 class WrongTest(unittest.TestCase):
-    def test_no_table(self):
-        for thing in no_tables():
-            for function, names in FUNCTIONS:
-                self.assertIs(told(function, *arguments(names, table=thing)), NoTable)
-
     def test_no_type(self):
         for thing in no_kinds():
             for function, names in OF_A_KIND:
@@ -150,16 +113,6 @@ class WrongTest(unittest.TestCase):
 
 
 class UnchangedTest(unittest.TestCase):
-    def test_arguments_are_as_they_were(self):
-        values = [["one"], {"X": ["one"]}, ("endless", [["deep", "X"]]), ("ends", [3]), ([["box", 0]],), [("box", 0)],
-                  nested(["X"], 9, lambda thing: [thing, {"a": (thing,)}])]
-        for thing in values:
-            before = copy.deepcopy(thing)
-            for function, names in FUNCTIONS:
-                for name in names.split():
-                    told(function, *arguments(names, **{name: thing}))
-                    self.assertEqual(thing, before)
-
     def test_a_table_and_its_types_are_as_they_were(self):
         classes = (ONE, BOX, DEEP, DUO, TWICE)
         table = Table(*classes)
